@@ -1,0 +1,1 @@
+"""Layerdraw: nets of arrows on levels."""

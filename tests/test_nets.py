@@ -1,6 +1,7 @@
 import inspect
 import unittest
 
+from checks import told
 from layerdraw.errors import Alone, NoName, NoNumber, NoPoint, NoSuch, Taken, TooMany
 from layerdraw.nets import Net
 
@@ -14,12 +15,6 @@ def net_of(names):
     for name in names:
         net.put_point(name)
     return net
-
-
-def told(net):
-    points = net.points()
-    halves = [net.half_of(name) for name in points]
-    return (points, halves, net.arrows(), net.sames(), net.mosts())
 
 
 class NetCase(unittest.TestCase):

@@ -1,0 +1,67 @@
+"""What several tests use: all that a net tells, and a look of their own, without the program, at what is told."""
+
+
+def told(net):
+    points = net.points()
+    halves = [net.half_of(name) for name in points]
+    return (points, halves, net.arrows(), net.sames(), net.mosts())
+
+
+def keeps_all(wishes, places):
+    return all(places[other] - places[one] >= least for one, other, least, weight in wishes)
+
+
+def worth_of(wishes, places):
+    total = 0
+    for one, other, least, weight in wishes:
+        total += weight * (places[other] - places[one])
+    return total
+
+
+def bound_of(wishes, flow):
+    return sum(amount * wish[2] for amount, wish in zip(flow, wishes, strict=True))
+
+
+def adds_up(count, wishes, flow):
+    """True where the list is a flow, looked at point by point."""
+    if len(flow) != len(wishes) or min(flow, default=0) < 0:
+        return False
+    for point in range(count):
+        by_flow = by_weights = 0
+        for amount, (one, other, least, weight) in zip(flow, wishes):
+            if other == point:
+                by_flow += amount
+                by_weights += weight
+            if one == point:
+                by_flow -= amount
+                by_weights -= weight
+        if by_flow != by_weights:
+            return False
+    return True
+
+
+def goes_round(wishes, ring):
+    """True where the list is a ring of the wishes, looked at wish by wish."""
+    if not ring or not all(number in range(len(wishes)) for number in ring):
+        return False
+    rows = [wishes[number] for number in ring]
+    for k, row in enumerate(rows):
+        if row[1] != rows[(k + 1) % len(rows)][0]:
+            return False
+    return len({row[0] for row in rows}) == len(rows) and sum(row[2] for row in rows) > 0
+
+
+def parts(count, wishes):
+    """The parts, each a list of points: walked from point to point along the wishes, both ways."""
+    found = []
+    for start in range(count):
+        if any(start in part for part in found):
+            continue
+        part = [start]
+        for point in part:
+            for one, other, least, weight in wishes:
+                for near, far in ((one, other), (other, one)):
+                    if near == point and far not in part:
+                        part.append(far)
+        found.append(part)
+    return found

@@ -65,3 +65,42 @@ def parts(count, wishes):
                         part.append(far)
         found.append(part)
     return found
+
+
+def faults(count, wishes, places, flow):
+    """What is wrong with places and a flow that are told as the least ones: nothing, where they are."""
+    found = []
+    if (len(places), len(flow)) != (count, len(wishes)):
+        return ["not as many as there are points and wishes"]
+    if not all(type(number) is int for number in places + flow):
+        found.append("a number of another kind")
+    if not keeps_all(wishes, places):
+        found.append("a wish that is not kept")
+    if any(min(places[point] for point in part) != 0 for part in parts(count, wishes)):
+        found.append("a part that is not from 0 on")
+    if not adds_up(count, wishes, flow):
+        found.append("no flow")
+    if bound_of(wishes, flow) != worth_of(wishes, places):
+        found.append("a bound that is not the worth")
+    return found
+
+
+def reached(pairs, start):
+    """All points that the pairs lead to from the start; the start among them only by a ring."""
+    found = set()
+    new = {start}
+    while new:
+        new = {other for one, other in pairs if one in new} - found
+        found |= new
+    return found
+
+
+def turned_by_the_words(net):
+    """[2.2], arrow by arrow."""
+    kept, others = [], []
+    for number, one, other, span, weight in net.arrows():
+        if one in reached(kept, other):
+            others.append(number)
+        else:
+            kept.append((one, other))
+    return others

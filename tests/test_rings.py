@@ -2,7 +2,7 @@ import inspect
 import random
 import unittest
 
-from checks import told
+from checks import told, turned_by_the_words
 from layerdraw import rings
 from layerdraw.errors import NoSuch
 from layerdraw.nets import Net
@@ -18,27 +18,6 @@ def net_of(names, pairs):
     for one, other in pairs:
         net.put_arrow(one, other)
     return net
-
-
-def reached(pairs, start):
-    """All points that the pairs lead to from the start; the start among them only by a ring."""
-    found = set()
-    new = {start}
-    while new:
-        new = {other for one, other in pairs if one in new} - found
-        found |= new
-    return found
-
-
-def turned_by_the_words(net):
-    """[2.2], arrow by arrow."""
-    kept, others = [], []
-    for number, one, other, span, weight in net.arrows():
-        if one in reached(kept, other):
-            others.append(number)
-        else:
-            kept.append((one, other))
-    return others
 
 
 def random_net(chance, names, arrows):

@@ -104,3 +104,19 @@ def turned_by_the_words(net):
         else:
             kept.append((one, other))
     return others
+
+
+def wishes_by_the_words(net):
+    """[5.1], one by one."""
+    points = net.points()
+    about = turned_by_the_words(net)
+    wishes = []
+    for number, one, other, span, weight in net.arrows():
+        start, end = (other, one) if number in about else (one, other)
+        wishes.append((points.index(start), points.index(end), span, weight))
+    for one, other in net.sames():
+        for start, end in ((one, other), (other, one)):
+            wishes.append((points.index(start), points.index(end), 0, 0))
+    for one, other, number in net.mosts():
+        wishes.append((points.index(other), points.index(one), -number, 0))
+    return wishes

@@ -3,49 +3,13 @@ import itertools
 import random
 import unittest
 
-from checks import faults, goes_round, keeps_all, told, turned_by_the_words, worth_of
+from checks import faults, goes_round, keeps_all, told, wishes_by_the_words, worth_of
 from layerdraw import levels as module
 from layerdraw.errors import Ring, TooLong
 from layerdraw.items import Own, Small
 from layerdraw.levels import halves_of, keeps_net, length, levelled, marks_of, pairs_of, rows_of, wishes_of
 from layerdraw.nets import Net
-from layerdraw.reading import read_net
-
-LETTERS = "abcdefghijklmnopqrst"
-
-
-def net_of(*lines):
-    return read_net("\n".join(lines))
-
-
-def wishes_by_the_words(net):
-    """[5.1], one by one."""
-    points = net.points()
-    about = turned_by_the_words(net)
-    wishes = []
-    for number, one, other, span, weight in net.arrows():
-        start, end = (other, one) if number in about else (one, other)
-        wishes.append((points.index(start), points.index(end), span, weight))
-    for one, other in net.sames():
-        for start, end in ((one, other), (other, one)):
-            wishes.append((points.index(start), points.index(end), 0, 0))
-    for one, other, number in net.mosts():
-        wishes.append((points.index(other), points.index(one), -number, 0))
-    return wishes
-
-
-def random_net(chance, count, arrows, sames, mosts, span, number):
-    """A net with so many of each; arrows with spans up to the told one, mosts with numbers up to the told one."""
-    net = Net()
-    for name in LETTERS[:count]:
-        net.put_point(name, chance.randint(0, 50))
-    for time in range(arrows):
-        net.put_arrow(*chance.sample(LETTERS[:count], 2), chance.randint(1, span), chance.choice((1, 2, 7, 10 ** 6)))
-    for time in range(sames):
-        net.put_same(*chance.sample(LETTERS[:count], 2))
-    for time in range(mosts):
-        net.put_most(*chance.sample(LETTERS[:count], 2), chance.randint(0, number))
-    return net
+from made import LETTERS, net_of, random_net
 
 
 class WishesTest(unittest.TestCase):
